@@ -1,0 +1,1 @@
+"""Wireyard: parts wired together, gone through beat by beat."""
