@@ -20,7 +20,7 @@ METHODS = set(
 DOUBLE = ("__init__",)
 NO_NODES = (
     ast.Global, ast.AsyncFunctionDef, ast.AsyncFor, ast.AsyncWith, ast.Await, ast.Div, ast.GeneratorExp, ast.Yield,
-    ast.YieldFrom, ast.Lambda, ast.Import, ast.MatMult, ast.NamedExpr, ast.Delete, ast.Nonlocal, ast.AnnAssign,
+    ast.YieldFrom, ast.Lambda, ast.Import, ast.MatMult, ast.NamedExpr, ast.Nonlocal, ast.AnnAssign,
 )
 NO_WORDS = (
     "register mro elements open input law version_info with_traceback add_note attrgetter breakpoint compile eval exec "
