@@ -2,7 +2,7 @@ import unittest
 
 from making import kids, some_terms
 from wireyard.reading import read, term_in
-from wireyard.walks import kids_of, made_parts, widths_in
+from wireyard.walks import kids_of, made_parts, names_told, row_terms, row_widths, widths_in
 
 A, B, C = ("name", "a"), ("name", "b"), ("name", "c")
 
@@ -99,6 +99,27 @@ class TestWidthsIn(unittest.TestCase):
         del told["b"]
         self.assertEqual(widths_in(part, (5,)), {"a": 5, "b": 8})
         self.assertEqual(part, self.part("part p w", "in a w", "out b 8"))
+
+
+class TestRows(unittest.TestCase):
+    ROWS = (
+        ("in n w", [("w", 0)], []), ("out n 8", [("", 8)], []), ("wire n (w + 1)", [("w", 1)], []), ("rest n 8 0 = a", [("", 8)], [A]),
+        ("let n = a", [], [A]), ("use n q(8, w): a, b", [("", 8), ("w", 0)], [A, B]), ("use n q", [], []),
+        ("table n 8: 1, 2", [("", 8)], []), ("memory n w 4: a, b, c", [("w", 0)], [A, B, C]),
+    )
+
+    def test_widths_and_terms(self):
+        for text, widths, terms in self.ROWS:
+            row = read("part p w\n" + text)[0][2][0]
+            self.assertEqual((row_widths(row), row_terms(row)), (widths, terms), text)
+
+    def test_names_told(self):
+        part = read("part p\nin a 8\nout b 8\ntable t 8: 1\nin c 8\nlet b = a\nuse u q: a\nin d 8")[0]
+        self.assertEqual(names_told(part, "in"), ["a", "c", "d"])
+        self.assertEqual(names_told(part, "out"), ["b"])
+        self.assertEqual(names_told(part, "table"), ["t"])
+        self.assertEqual(names_told(part, "use"), ["u"])
+        self.assertEqual(names_told(part, "wire"), [])
 
 
 class TestMadeParts(unittest.TestCase):

@@ -43,6 +43,11 @@ def two_words(sign, one, other, width):
     return 1 if one < other else 0
 
 
+def two_width(sign, width):
+    """The width of what a sign makes of two words of a width."""
+    return 1 if sign in ("==", "<") else width
+
+
 def cut_word(word, low, many):
     """So many bits of a word, from bit low on."""
     return (word >> low) & top_of(many)

@@ -1,6 +1,6 @@
 """Which names ask which, and whether some of them ask one another in a ring."""
 
-from wireyard.walks import kids_of, made_parts, parts_by_name
+from wireyard.walks import kids_of, made_parts, names_told, parts_by_name
 
 
 def asks_of(yard):
@@ -13,7 +13,7 @@ def asks_of(yard):
                 asks[path + row[1]] = _asked_by(row[2], path)
             if row[0] == "use":
                 _, use, used, _, terms = row
-                for door, term in zip(_doors_in(parts[used]), terms):
+                for door, term in zip(names_told(parts[used], "in"), terms):
                     asks[path + use + "." + door] = _asked_by(term, path)
     return asks
 
@@ -51,10 +51,6 @@ def _ring_from(start, asks, done):
         way.append(name)
         left.append(list(reversed(asks.get(name, []))))
     return None
-
-
-def _doors_in(part):
-    return [row[1] for row in part[2] if row[0] == "in"]
 
 
 def _asked_by(term, path):

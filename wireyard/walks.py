@@ -25,6 +25,39 @@ def width_number(width, numbers):
     return numbers[name] + number
 
 
+def width_numbers(widths, numbers):
+    """What the widths of a use come to: the numbers of the part that it makes."""
+    return tuple([width_number(width, numbers) for width in widths])
+
+
+def row_widths(row):
+    """The widths that stand in a row, but those within its terms."""
+    if row[0] == "use":
+        return list(row[3])
+    if row[0] == "let":
+        return []
+    return [row[2]]
+
+
+def row_terms(row):
+    """The terms of a row, from the left."""
+    kind = row[0]
+    if kind == "let":
+        return [row[2]]
+    if kind == "rest":
+        return [row[4]]
+    if kind == "use":
+        return list(row[4])
+    if kind == "memory":
+        return list(row[4:])
+    return []
+
+
+def names_told(part, kind):
+    """The names that the rows of a kind tell in a part, in order."""
+    return [row[1] for row in part[2] if row[0] == kind]
+
+
 def widths_in(part, numbers):
     """The widths of the names that a part's rows tell, but of those of uses."""
     _, params, rows = part
@@ -50,6 +83,6 @@ def _made_from(parts, path, name, numbers):
     for row in rows:
         if row[0] == "use":
             _, use, used, widths, _ = row
-            inner = tuple([width_number(width, by_param) for width in widths])
+            inner = width_numbers(widths, by_param)
             made.extend(_made_from(parts, path + use + ".", used, inner))
     return made
