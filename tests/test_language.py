@@ -10,7 +10,7 @@ ROOT = os.path.join(os.path.dirname(os.path.dirname(os.path.abspath(__file__))),
 
 BUILTINS = set(
     "len range enumerate zip min max sum abs sorted reversed int str bool list tuple dict set isinstance ord repr "
-    "any all divmod super ValueError KeyError".split()
+    "any all divmod super ValueError KeyError NotImplementedError".split()
 )
 METHODS = set(
     "append clear copy count endswith extend find get index insert isalnum isalpha isdigit islower isspace isupper "
@@ -117,24 +117,41 @@ class TestStatements(unittest.TestCase):
                     self.assertIsInstance(node.right, ast.Constant, name)
 
 
+LIBRARY = {"heapq": ("heappush", "heappop")}
+
+
+def own_imports(tree):
+    """The imports from modules of the package; those of the library are few, and looked at elsewhere."""
+    return [node for node in ast.walk(tree) if isinstance(node, ast.ImportFrom) and node.module not in LIBRARY]
+
+
 class TestImports(unittest.TestCase):
+    def test_imports_of_the_library(self):
+        for name, tree in trees().items():
+            called = [id(node.func) for node in ast.walk(tree) if isinstance(node, ast.Call)]
+            for node in ast.walk(tree):
+                if isinstance(node, ast.ImportFrom) and node.module in LIBRARY:
+                    for alias in node.names:
+                        self.assertIn(alias.name, LIBRARY[node.module], name)
+                        self.assertIsNone(alias.asname)
+                if isinstance(node, ast.Name) and node.id in sum(LIBRARY.values(), ()):
+                    self.assertIn(id(node), called, (name, node.lineno))
+
     def test_imports_name_the_file_that_defines(self):
         found = trees()
         for name, tree in found.items():
-            for node in ast.walk(tree):
-                if isinstance(node, ast.ImportFrom):
-                    self.assertEqual((node.level, node.module.split(".")[0]), (0, "wireyard"), name)
-                    other = found[node.module.split(".")[1] + ".py"]
-                    own = [thing for thing in other.body if not isinstance(thing, ast.ImportFrom)]
-                    for alias in node.names:
-                        self.assertIsNone(alias.asname)
-                        self.assertIn(alias.name, defined_in(ast.Module(body=own, type_ignores=[])), name)
+            for node in own_imports(tree):
+                self.assertEqual((node.level, node.module.split(".")[0]), (0, "wireyard"), name)
+                other = found[node.module.split(".")[1] + ".py"]
+                own = [thing for thing in other.body if not isinstance(thing, ast.ImportFrom)]
+                for alias in node.names:
+                    self.assertIsNone(alias.asname)
+                    self.assertIn(alias.name, defined_in(ast.Module(body=own, type_ignores=[])), name)
 
     def test_no_ring_of_imports(self):
         asks = {}
         for name, tree in trees().items():
-            nodes = [node for node in ast.walk(tree) if isinstance(node, ast.ImportFrom)]
-            asks[name] = sorted({node.module.split(".")[1] + ".py" for node in nodes})
+            asks[name] = sorted({node.module.split(".")[1] + ".py" for node in own_imports(tree)})
         left = dict(asks)
         while left:
             free = [name for name in left if not any(other in left for other in left[name])]
