@@ -8,6 +8,8 @@ def need_doors(doors, ins):
     """Refuses all but a dict from just the doors in, tuples of name and width, to words of their widths."""
     if not isinstance(doors, dict):
         raise BadDoors("doors are no dict")
+    if not all([isinstance(name, str) for name in doors]):
+        raise BadDoors("a door's name is no text")
     if len(doors) != len(ins):
         raise BadDoors("another count of doors")
     for name, width in ins:

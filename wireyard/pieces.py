@@ -51,6 +51,10 @@ class Piece:
     def parts(self):
         return list(self.beneath)
 
+    def net_row(self, sides, places):
+        """The row of a net that tells this, by the rows of its parts and the places of tables and memories by name."""
+        raise NotImplementedError("a name has no row of its own")
+
 
 class NumberPiece(Piece):
     def __init__(self, width, number):
@@ -60,6 +64,9 @@ class NumberPiece(Piece):
 
     def worth(self, seen):
         return self.number
+
+    def net_row(self, sides, places):
+        return ("number", self.wide, self.number)
 
 
 class NamePiece(Piece):
@@ -78,13 +85,17 @@ class NamePiece(Piece):
 
 
 class TablePiece(Piece):
-    def __init__(self, width, numbers, place):
+    def __init__(self, width, name, numbers, place):
         self.wide = width
         self.beneath = [place]
+        self.name = name
         self.table = tuple(numbers)
 
     def worth(self, seen):
         return cell_at(self.table, self.beneath[0].worth(seen))
+
+    def net_row(self, sides, places):
+        return ("table", self.wide, places[self.name], sides[0])
 
 
 class MemoryPiece(Piece):
@@ -99,6 +110,9 @@ class MemoryPiece(Piece):
     def reads(self):
         return [self.name] + self.beneath[0].reads()
 
+    def net_row(self, sides, places):
+        return ("memory", self.wide, places[self.name], sides[0])
+
 
 class NotPiece(Piece):
     def __init__(self, one):
@@ -107,6 +121,9 @@ class NotPiece(Piece):
 
     def worth(self, seen):
         return turned(self.beneath[0].worth(seen), self.wide)
+
+    def net_row(self, sides, places):
+        return ("not", self.wide, sides[0])
 
 
 class TwoPiece(Piece):
@@ -119,6 +136,9 @@ class TwoPiece(Piece):
         one, other = self.beneath
         return two_words(self.sign, one.worth(seen), other.worth(seen), self.wide)
 
+    def net_row(self, sides, places):
+        return ("two", self.wide, self.sign, sides[0], sides[1])
+
 
 class PickPiece(Piece):
     def __init__(self, test, one, other):
@@ -128,6 +148,9 @@ class PickPiece(Piece):
     def worth(self, seen):
         test, one, other = self.beneath
         return one.worth(seen) if test.worth(seen) == 1 else other.worth(seen)
+
+    def net_row(self, sides, places):
+        return ("pick", self.wide, sides[0], sides[1], sides[2])
 
 
 class CutPiece(Piece):
@@ -139,6 +162,9 @@ class CutPiece(Piece):
     def worth(self, seen):
         return cut_word(self.beneath[0].worth(seen), self.low, self.wide)
 
+    def net_row(self, sides, places):
+        return ("cut", self.wide, sides[0], self.low)
+
 
 class JoinPiece(Piece):
     def __init__(self, high, low):
@@ -149,6 +175,9 @@ class JoinPiece(Piece):
         high, low = self.beneath
         return joined_words(high.worth(seen), low.worth(seen), low.width())
 
+    def net_row(self, sides, places):
+        return ("join", self.wide, sides[0], sides[1])
+
 
 class FillPiece(Piece):
     def __init__(self, width, one):
@@ -157,6 +186,9 @@ class FillPiece(Piece):
 
     def worth(self, seen):
         return self.beneath[0].worth(seen)
+
+    def net_row(self, sides, places):
+        return ("fill", self.wide, sides[0])
 
 
 def piece_of(term, scope):
@@ -192,4 +224,4 @@ def _stored(name, place, scope):
     width, numbers = scope.stores[name]
     if numbers is None:
         return MemoryPiece(width, scope.full(name), place)
-    return TablePiece(width, numbers, place)
+    return TablePiece(width, scope.full(name), numbers, place)

@@ -34,3 +34,7 @@ class Plain:
 
     def back(self):
         self.state.back()
+
+    def stand(self, rests, cells):
+        """Goes on from the state that these tell."""
+        self.state.stand(rests, cells)

@@ -55,12 +55,12 @@ def _word_by(text):
         return ("mark", text)
     if is_name(text):
         return ("name", text)
-    if _is_number(text):
-        return ("number", int(text))
-    return None
+    number = number_by(text)
+    return None if number is None else ("number", number)
 
 
-def _is_number(text):
-    if len(text) > MOST_FIGURES or (text[0] == "0" and text != "0"):
-        return False
-    return all([sign in FIGURES for sign in text])
+def number_by(text):
+    """The number that 1 to 20 figures without noughts ahead tell, None of all other texts."""
+    if not 1 <= len(text) <= MOST_FIGURES or (text[0] == "0" and text != "0"):
+        return None
+    return int(text) if all([sign in FIGURES for sign in text]) else None

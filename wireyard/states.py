@@ -15,6 +15,11 @@ class State:
         self.words = list(self.firsts)
         self.stores = [[0] * size for size in self.sizes]
 
+    def stand(self, rests, cells):
+        """Stands as it stood when it told these rests and cells."""
+        self.words = [word for _, word in rests]
+        self.stores = [list(store) for _, store in cells]
+
     def rests(self):
         return list(zip(self.rest_names, self.words))
 

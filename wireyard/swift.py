@@ -62,6 +62,11 @@ class Swift:
         self.last = None
         self.reckoned = 0
 
+    def stand(self, rests, cells):
+        """Goes on from the state that these tell; as behind back, there is no beat ahead then."""
+        self.back()
+        self.state.stand(rests, cells)
+
     def stirred(self):
         """How many names were reckoned in the last beat."""
         return self.reckoned
