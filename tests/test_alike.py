@@ -125,11 +125,11 @@ class TestAlike(Alikes):
         self.assertEqual(len(pairs), 4)
 
     def test_rests_and_cells_as_they_are_told(self):
-        one = self.net("in a 2", "memory m 2 2: cut(a, 0, 1), a, cut(a, 1, 1)", "rest r 1 1 = cut(a, 0, 1)", "memory n 1 3: a, r, 1:1",
-                       "rest k 2 2 = k", "out s 2", "let s = m[r]")
+        one = self.net("in a 2", "memory m 1 3: a, r, 1:1", "rest r 1 1 = cut(a, 0, 1)", "memory n 2 2: cut(a, 0, 1), a, cut(a, 1, 1)",
+                       "rest k 2 2 = k", "out s 2", "let s = n[r]")
         pairs = self.is_alike(one, one)
-        self.assertEqual(pairs[0][0], ((1, 2), ((0, 0), (0, 0, 0))))
-        self.assertIn(((0, 2), ((2, 0), (0, 0, 1))), [pair[0] for pair in pairs])
+        self.assertEqual(pairs[0][0], ((1, 2), ((0, 0, 0), (0, 0))))
+        self.assertIn(((0, 2), ((0, 0, 1), (2, 0))), [pair[0] for pair in pairs])
 
     def test_no_doors_no_outs_no_state(self):
         self.assertEqual(self.is_alike(EMPTY, EMPTY), ((((), ()), ((), ())),))

@@ -117,6 +117,35 @@ class TestStatements(unittest.TestCase):
                     self.assertIsInstance(node.right, ast.Constant, name)
 
 
+    def test_views_are_gone_through_at_once(self):
+        for name, tree in trees().items():
+            good = set()
+            for node in ast.walk(tree):
+                if isinstance(node, (ast.For, ast.comprehension)):
+                    good.add(id(node.iter))
+                if isinstance(node, ast.Call) and isinstance(node.func, ast.Name) and node.func.id in GOING_THROUGH:
+                    good.add(id(node.args[0]) if node.args else 0)
+            for node in ast.walk(tree):
+                if isinstance(node, ast.Call) and (called_name(node) in VIEWS):
+                    self.assertIn(id(node), good, (name, node.lineno))
+
+    def test_no_name_is_a_method_and_an_attribute(self):
+        for name, tree in trees().items():
+            for node in ast.walk(tree):
+                if isinstance(node, ast.ClassDef):
+                    methods = {part.name for part in node.body if isinstance(part, ast.FunctionDef)}
+                    told = {part.attr for part in ast.walk(node) if isinstance(part, ast.Attribute) and isinstance(part.ctx, ast.Store)}
+                    self.assertFalse(methods & told, (name, node.name))
+
+
+VIEWS = ("zip", "enumerate", "reversed", "range", "items", "keys", "values")
+GOING_THROUGH = ("list", "tuple", "dict", "sorted", "sum", "any", "all", "enumerate", "zip", "reversed")
+
+
+def called_name(node):
+    return node.func.id if isinstance(node.func, ast.Name) else node.func.attr
+
+
 LIBRARY = {"heapq": ("heappush", "heappop")}
 
 

@@ -150,8 +150,6 @@ class TraceReading:
             return None
         border = words.index(">")
         sides = [_pairs_in(words[:border]), _pairs_in(words[border + 1:])]
-        if None in sides:
-            return None
         if self.beats:
             sides = [_changed(ahead, pairs) for ahead, pairs in zip(self.beats[-1], sides)]
         beat = tuple(sides)
@@ -166,12 +164,12 @@ def _count_in(words):
 
 
 def _pairs_in(words):
-    """The pairs that words tell, None where one tells none."""
+    """The pairs that words tell; a word that tells none is a pair that is none."""
     pairs = []
     for word in words:
         name, _, number = word.partition("=")
         pairs.append((name, number_by(number)))
-    return tuple(pairs) if all([_is_pair(pair) for pair in pairs]) else None
+    return tuple(pairs)
 
 
 def _changed(ahead, told):
