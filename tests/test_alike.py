@@ -351,7 +351,7 @@ class TestTold(unittest.TestCase):
                 self.assertEqual(after, [*next_rests, *[cell for store in next_cells for cell in store]])
 
     def test_numbers(self):
-        self.assertEqual(number_word(5, 4), [1, 0, 1, 0])
+        self.assertEqual(number_word(Diagrams(0), 5, 4), [1, 0, 1, 0])
         net = ((), (("number", 64, 2 ** 64 - 2), ("number", 64, 3), ("two", 64, "+", 0, 1), ("two", 1, "<", 1, 0)), (("s", 2), ("t", 3)),
                (), (), ())
         told = Told(Diagrams(0), net, ([], []), [])

@@ -177,19 +177,6 @@ class TestMany(unittest.TestCase):
         self.assertEqual(diagrams.way(diagrams.both(odd, diagrams.turned(bits[0]))), 2)
         self.assertEqual(diagrams.way(diagrams.both(diagrams.turned(odd), bits[9])), 513)
 
-    def test_told_together(self):
-        choice = random.Random(33)
-        for _ in range(30):
-            book = Book(4, 2000)
-            for _ in range(15):
-                name, given, tells = book.asked(choice)
-                book.knots[getattr(book.diagrams, name)(*given)] = tells
-            knots = [book.some(choice) for _ in range(choice.randrange(6))]
-            wanted = {}
-            for word in book.words:
-                wanted.setdefault(tuple(book.knots[knot][word] for knot in knots), word)
-            self.assertEqual(book.diagrams.told_together(knots), wanted)
-
 
 class TestMost(unittest.TestCase):
     def refused(self, diagrams, name, *given):

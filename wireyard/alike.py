@@ -2,27 +2,44 @@
 
 from wireyard.bits import cut_word
 from wireyard.choices import Told, number_word
-from wireyard.diagrams import Diagrams
+from wireyard.columns import Columns
 from wireyard.errors import BadNet, TooMany
 from wireyard.nets import need_net
 
 MOST_DOOR_BITS = 12
 MOST_STATE_BITS = 24
 MOST_PAIRS = 300
-# Far more than are promised, so that rows which nobody is told of may be many-sided.
-MOST_KNOTS = 50000
+# A column tells of all words of so many bits at the most, so that it is a number of fewer than 900 figures.
+MOST_COLUMN_BITS = 11
 
 
 class Pairing:
-    """The pairs of states found so far, each with the pair and the doors' word by which it was found first."""
+    """The pairs of states found so far, each with the pair and the doors' word by which it was found first.
+
+    All bits of the doors are the bits of one word, which is meant by its place in the order of Columns. It may have
+    more bits than columns tell of: then its first bits are numbers, others in each going, and its last ones columns.
+    """
 
     def __init__(self, net, other):
         self.nets = (net, other)
-        self.diagrams = Diagrams(MOST_KNOTS)
-        self.doors = self.door_words()
+        self.bits = door_bits(net)
+        self.columns = Columns(min(self.bits, MOST_COLUMN_BITS))
+        pair = (first_state(net), first_state(other))
+        self.goings = [self.going_from(start, pair) for start in range(1 << (self.bits - self.columns.places))]
         self.found = []
         self.ways = {}
-        self.put((first_state(net), first_state(other)), None)
+        self.put(pair, None)
+
+    def going_from(self, start, pair):
+        """Both nets told of all words whose first bits are those of a number, its highest one first."""
+        places = self.columns.places
+        bits = number_word(self.columns, start, self.bits - places)[::-1]
+        bits.extend([self.columns.bit(place) for place in range(places)])
+        doors = []
+        for _, width in self.nets[0][0]:
+            doors.append(bits[:width])
+            del bits[:width]
+        return [Told(self.columns, net, state, doors) for net, state in zip(self.nets, pair)]
 
     def put(self, pair, way):
         if pair not in self.ways:
@@ -36,58 +53,60 @@ class Pairing:
         at = 0
         while at < len(self.found):
             pair = self.found[at]
-            one, other = self.told_at(pair)
-            word = self.parting(one, other)
-            if word is not None:
-                return ("apart", self.beats_to(pair, word))
-            self.go_on(pair, one.after, other.after)
+            self.tell(pair)
+            place = self.parting()
+            if place is not None:
+                return ("apart", self.beats_to(pair, place))
+            self.go_on(pair)
             at += 1
         return ("alike", tuple(self.found))
 
-    def told_at(self, pair):
-        """Both nets, told from a pair of states on."""
-        firsts = [state_words(net, state) for net, state in zip(self.nets, pair)]
-        return [Told(self.diagrams, net, first, self.doors) for net, first in zip(self.nets, firsts)]
+    def tell(self, pair):
+        """Tells both nets from a pair of states on."""
+        for going in self.goings:
+            for told, state in zip(going, pair):
+                told.tell(state)
 
-    def door_words(self):
-        """The doors' words: all their bits are bits of one word, in order."""
-        words = []
-        bit = 0
-        for _, width in self.nets[0][0]:
-            words.append([self.diagrams.bit(bit + at) for at in range(width)])
-            bit += width
-        return words
+    def place_of(self, start, at):
+        """The place of a word by its first bits, a number, and by the place that its last ones have in columns."""
+        return (start << self.columns.places) + at
 
-    def parting(self, one, other):
-        """A word of the doors by which the two tell unlike, None where there is none."""
-        for word, beside in zip(one.outs, other.outs):
-            for knot, other_knot in zip(word, beside):
-                if knot != other_knot:
-                    return self.diagrams.way(self.diagrams.unlike(knot, other_knot))
+    def parting(self):
+        """The place of the first word of the doors by which the two tell unlike, None where there is none."""
+        for start, (one, other) in enumerate(self.goings):
+            unlike = 0
+            for word, beside in zip(one.outs, other.outs):
+                for column, other_column in zip(word, beside):
+                    unlike = self.columns.either(unlike, self.columns.unlike(column, other_column))
+            if unlike != 0:
+                return self.place_of(start, self.columns.first(unlike))
         return None
 
-    def go_on(self, pair, after, other_after):
+    def go_on(self, pair):
         """Finds all pairs that one beat leads to."""
         net, other = self.nets
         many = sum(state_widths(net))
-        told = self.diagrams.told_together([knot for word in after + other_after for knot in word])
-        for bits in told:
-            states = (state_by(net, bits[:many]), state_by(other, bits[many:]))
-            self.put(states, (pair, told[bits]))
+        for start, (one, beside) in enumerate(self.goings):
+            for at, told in self.columns.parted([column for word in one.after + beside.after for column in word]):
+                states = (state_by(net, told), state_by(other, told >> many))
+                self.put(states, (pair, self.place_of(start, at)))
 
-    def beats_to(self, pair, word):
-        """The beats that lead to a pair, and behind them one by a word of the doors."""
-        beats = [self.beat_by(word)]
+    def beats_to(self, pair, place):
+        """The beats that lead to a pair, and behind them one by the doors' word at a place."""
+        beats = [self.beat_by(place)]
         while self.ways[pair] is not None:
-            pair, word = self.ways[pair]
-            beats.append(self.beat_by(word))
+            pair, place = self.ways[pair]
+            beats.append(self.beat_by(place))
         return tuple(reversed(beats))
 
-    def beat_by(self, word):
+    def beat_by(self, place):
+        """The doors' words that stand at a place: their first bit is the place's highest one."""
         doors = []
+        left = self.bits
         for name, width in self.nets[0][0]:
-            doors.append((name, cut_word(word, 0, width)))
-            word >>= width
+            left -= width
+            bits = cut_word(place, left, width)
+            doors.append((name, sum([cut_word(bits, width - 1 - at, 1) << at for at in range(width)])))
         return tuple(doors)
 
 
@@ -97,7 +116,7 @@ def alike(net, other):
     need_net(other)
     if doors_of(net) != doors_of(other):
         raise BadNet("the doors of the nets are unlike")
-    if sum([width for _, width in net[0]]) > MOST_DOOR_BITS:
+    if door_bits(net) > MOST_DOOR_BITS:
         raise TooMany(f"doors in of more than {MOST_DOOR_BITS} bits")
     if sum(state_widths(net)) + sum(state_widths(other)) > MOST_STATE_BITS:
         raise TooMany(f"rests and cells of more than {MOST_STATE_BITS} bits")
@@ -108,6 +127,11 @@ def doors_of(net):
     """The doors in and out with their widths."""
     ins, rows, outs, _, _, _ = net
     return (ins, tuple([(name, rows[row][1]) for name, row in outs]))
+
+
+def door_bits(net):
+    """How many bits the doors in have."""
+    return sum([width for _, width in net[0]])
 
 
 def state_widths(net):
@@ -123,21 +147,12 @@ def first_state(net):
     return (tuple([rest[2] for rest in net[3]]), tuple([(0,) * memory[2] for memory in net[5]]))
 
 
-def state_words(net, state):
-    """A state by words of knots."""
-    rests, cells = state
-    words = [number_word(word, rest[1]) for word, rest in zip(rests, net[3])]
-    stores = [[number_word(cell, memory[1]) for cell in store] for store, memory in zip(cells, net[5])]
-    return (words, stores)
-
-
-def state_by(net, bits):
-    """The state whose bits are told, the rests' and then the cells', each word's lowest one first."""
+def state_by(net, told):
+    """The state whose bits are a number's lowest ones, the first rest's the lowest of all."""
     words = []
-    at = 0
     for width in state_widths(net):
-        words.append(sum([bits[at + low] << low for low in range(width)]))
-        at += width
+        words.append(cut_word(told, 0, width))
+        told >>= width
     cells = []
     start = len(net[3])
     for memory in net[5]:

@@ -1,10 +1,10 @@
-"""Nets told by diagrams: words are lists of knots, the lowest bit first.
+"""Nets told by knots: words are lists of knots, the lowest bit first.
 
-The knots 0 and 1 tell of all words what they are called, so that a number's bits are knots as they are.
+The knots are those of Diagrams, or the columns of Columns in place of them: 0 tells 0 of all words and whole tells 1 of
+all, so that the bits of a number are knots as well.
 """
 
-from wireyard.bits import cut_word
-from wireyard.nets import asked_by, worth_of
+from wireyard.nets import asked_by, cell_at, worth_of
 from wireyard.reach import rows_read
 
 
@@ -13,68 +13,122 @@ class Told:
 
     first is a tuple of the rests' words and of the memories' lists of words. The words of the doors out are in outs,
     those that rests and cells have next in after: first the rests', then all cells', in order.
+
+    A word that is the same whatever comes may be handed in as a number, and within it is kept as one: most rows of most
+    nets ask no doors, and a number is found far sooner at once than bit by bit.
     """
 
     def __init__(self, diagrams, net, first, doors):
         self.diagrams = diagrams
-        self.rows = net[1]
-        self.tables = net[4]
-        self.resting, self.stores = first
-        self.doors = doors
-        self.words = []
-        for row, read in zip(self.rows, rows_read(net)):
-            self.words.append(self.word_of(row) if read else [])
-        self.outs = [self.words[row] for _, row in net[2]]
-        self.after = [self.words[rest[3]] for rest in net[3]]
-        for cells, memory in zip(self.stores, net[5]):
-            place, value, on = [self.words[row] for row in memory[3:]]
-            self.after.extend(written_words(diagrams, cells, place, value, on[0]))
+        self.net = net
+        self.doors = [kept_word(diagrams, word) for word in doors]
+        self.read = rows_read(net)
+        self.asked = [None] * len(net[1])
+        self.words = [None] * len(net[1])
+        self.tell(first)
 
-    def word_of(self, row):
-        """The word of a row, by those of the rows ahead of it."""
-        kind, width, k = row[0], row[1], row[2]
+    def tell(self, first):
+        """Tells the net anew, rests and cells having other words first."""
+        self.resting = [kept_word(self.diagrams, word) for word in first[0]]
+        self.stores = [[kept_word(self.diagrams, cell) for cell in cells] for cells in first[1]]
+        for at, row in enumerate(self.net[1]):
+            if self.read[at]:
+                self.tell_row(at, row)
+        self.outs = [self.knots_at(row) for _, row in self.net[2]]
+        self.after = [self.knots_at(rest[3]) for rest in self.net[3]]
+        for cells, memory in zip(self.stores, self.net[5]):
+            self.after.extend(self.written(cells, memory))
+
+    def tell_row(self, at, row):
+        asked = self.asked_words(row)
+        # A row tells as it told ahead where all that it asks does: rows that only the doors lead to are told once.
+        if asked != self.asked[at]:
+            self.words[at] = self.word_of(row, asked)
+            self.asked[at] = asked
+
+    def asked_words(self, row):
+        """The words that a row's word is made of."""
+        kind, k = row[0], row[2]
         if kind == "in":
-            return self.doors[k]
+            return [self.doors[k]]
         if kind == "rest":
-            return self.resting[k]
+            return [self.resting[k]]
         if kind == "number":
-            return number_word(k, width)
+            return [k]
         asked = [self.words[number] for number in asked_by(row)]
         if kind == "table":
-            return cell_word(self.diagrams, [number_word(number, width) for number in self.tables[k]], asked[0])
+            asked.extend(self.net[4][k])
         if kind == "memory":
-            return cell_word(self.diagrams, self.stores[k], asked[0])
-        known = [known_number(word) for word in asked]
-        if None in known:
-            return self.word_by(row, asked)
-        # Most rows of most nets ask no doors: a number is found far sooner at once than bit by bit.
-        return number_word(worth_of(row, dict(zip(asked_by(row), known)), self.rows, self.tables), width)
+            asked.extend(self.stores[k])
+        return asked
 
-    def word_by(self, row, asked):
-        """The word of a row by the words that it asks, bit by bit."""
-        kind, width = row[0], row[1]
-        if kind == "not":
-            return turned_word(self.diagrams, asked[0])
-        if kind == "two":
-            return two_word(self.diagrams, row[2], asked[0], asked[1])
-        if kind == "pick":
-            return chosen_word(self.diagrams, asked[0][0], asked[1], asked[2])
-        if kind == "cut":
-            return asked[0][row[3]:row[3] + width]
-        if kind == "join":
-            return asked[1] + asked[0]
-        return asked[0] + [0] * (width - len(asked[0]))
+    def word_of(self, row, asked):
+        """The word of a row by the words that it is made of."""
+        kind = row[0]
+        if kind in ("in", "rest", "number"):
+            return asked[0]
+        if kind in ("table", "memory"):
+            return kept_word(self.diagrams, self.cell_of(asked[1:], asked[0], row[1]))
+        if all([isinstance(word, int) for word in asked]):
+            return worth_of(row, self.words, self.net[1], self.net[4])
+        knots = [self.knots_at(number) for number in asked_by(row)]
+        return kept_word(self.diagrams, word_by(self.diagrams, row, knots))
+
+    def cell_of(self, cells, place, width):
+        """The word of the cell at a place, 0 beyond the last one."""
+        if isinstance(place, int):
+            return cell_at(cells, place)
+        return cell_word(self.diagrams, [knots_of(self.diagrams, cell, width) for cell in cells], place)
+
+    def written(self, cells, memory):
+        """The cells of a memory behind the beat."""
+        stored = [knots_of(self.diagrams, cell, memory[1]) for cell in cells]
+        place, value, on = [self.knots_at(row) for row in memory[3:]]
+        return written_words(self.diagrams, stored, place, value, on[0])
+
+    def knots_at(self, number):
+        """The word of a row, knot by knot."""
+        return knots_of(self.diagrams, self.words[number], self.net[1][number][1])
 
 
-def number_word(number, width):
-    return [cut_word(number, at, 1) for at in range(width)]
+def kept_word(diagrams, word):
+    """A word as its number, if all of its knots tell the same of all words."""
+    if isinstance(word, int):
+        return word
+    number = 0
+    for at, knot in enumerate(word):
+        if knot == diagrams.whole:
+            number += 1 << at
+        elif knot != 0:
+            return list(word)
+    return number
 
 
-def known_number(word):
-    """The number whose bits all knots tell, None where a knot is another than 0 and 1."""
-    if max(word) > 1:
-        return None
-    return sum([knot << at for at, knot in enumerate(word)])
+def knots_of(diagrams, word, width):
+    """A word that is kept, knot by knot."""
+    if isinstance(word, int):
+        return number_word(diagrams, word, width)
+    return list(word)
+
+
+def number_word(diagrams, number, width):
+    return [diagrams.whole if (number >> at) & 1 == 1 else 0 for at in range(width)]
+
+
+def word_by(diagrams, row, asked):
+    """The word of a row by the words that it asks, knot by knot."""
+    kind, width = row[0], row[1]
+    if kind == "not":
+        return turned_word(diagrams, asked[0])
+    if kind == "two":
+        return two_word(diagrams, row[2], asked[0], asked[1])
+    if kind == "pick":
+        return chosen_word(diagrams, asked[0][0], asked[1], asked[2])
+    if kind == "cut":
+        return asked[0][row[3]:row[3] + width]
+    if kind == "join":
+        return asked[1] + asked[0]
+    return asked[0] + [0] * (width - len(asked[0]))
 
 
 def turned_word(diagrams, word):
@@ -97,7 +151,7 @@ def two_word(diagrams, sign, one, other):
     if sign == "+":
         return sum_word(diagrams, one, other, 0)
     if sign == "-":
-        return sum_word(diagrams, one, turned_word(diagrams, other), 1)
+        return sum_word(diagrams, one, turned_word(diagrams, other), diagrams.whole)
     if sign == "==":
         return [alike_knot(diagrams, one, other)]
     return [less_knot(diagrams, one, other)]
@@ -115,7 +169,7 @@ def sum_word(diagrams, one, other, carry):
 
 def alike_knot(diagrams, one, other):
     """What tells 1 where two words are the same."""
-    told = 1
+    told = diagrams.whole
     for knot, beside in zip(one, other):
         told = diagrams.both(told, diagrams.turned(diagrams.unlike(knot, beside)))
     return told
@@ -130,27 +184,30 @@ def less_knot(diagrams, one, other):
     return told
 
 
+def place_knots(diagrams, place, many):
+    """For each number below many what tells 1 where a word is this number; none for numbers that it never is."""
+    knots = [diagrams.whole]
+    for at in reversed(range(len(place))):
+        sides = (diagrams.turned(place[at]), place[at])
+        knots = [diagrams.both(knot, side) for knot in knots for side in sides]
+        # Of the bits from here on only those that numbers below many begin with.
+        del knots[((many - 1) >> at) + 1:]
+    return knots
+
+
 def cell_word(diagrams, cells, place):
     """The word of the cell at a place, 0 beyond the last one."""
-    nought = [0] * len(cells[0])
-    number = known_number(place)
-    if number is not None:
-        return cells[number] if number < len(cells) else nought
-    left = list(cells)
-    for bit in place:
-        if len(left) % 2 == 1:
-            left.append(nought)
-        left = [chosen_word(diagrams, bit, left[at + 1], left[at]) for at in range(0, len(left), 2)]
-    return left[0]
+    word = [0] * len(cells[0])
+    for cell, is_here in zip(cells, place_knots(diagrams, place, len(cells))):
+        for at, knot in enumerate(cell):
+            if knot != 0:
+                word[at] = diagrams.either(word[at], diagrams.both(is_here, knot))
+    return word
 
 
 def written_words(diagrams, cells, place, value, on):
     """The cells behind a beat that writes a value at a place where a knot tells 1."""
-    words = []
-    for at, cell in enumerate(cells):
-        # A cell whose number is wider than the place is never written.
-        is_here = 0
-        if at >> len(place) == 0:
-            is_here = diagrams.both(on, alike_knot(diagrams, place, number_word(at, len(place))))
-        words.append(chosen_word(diagrams, is_here, value, cell))
+    words = list(cells)
+    for at, is_here in enumerate(place_knots(diagrams, place, len(cells))):
+        words[at] = chosen_word(diagrams, diagrams.both(on, is_here), value, cells[at])
     return words

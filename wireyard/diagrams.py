@@ -14,6 +14,8 @@ class Diagrams:
 
     def __init__(self, most=2000):
         self.most = most
+        # The knot that tells 1 of all words, by the name that it has where columns stand in place of knots.
+        self.whole = 1
         self.bits = [NO_BIT, NO_BIT]
         self.lows = [0, 1]
         self.highs = [0, 1]
@@ -62,24 +64,6 @@ class Diagrams:
     def way(self, knot):
         """The least word of which a knot tells 1, None where there is none."""
         return self.ways[knot]
-
-    def told_together(self, knots):
-        """All that these knots tell of one word, as tuples of 0 and 1: a dict to the least such words."""
-        return self._told_together(tuple(knots), {})
-
-    def _told_together(self, knots, known):
-        bit = min([self.bits[knot] for knot in knots], default=NO_BIT)
-        if bit == NO_BIT:
-            return {knots: 0}
-        if knots not in known:
-            lows = self._told_together(tuple([self._side(knot, bit, 0) for knot in knots]), known)
-            highs = self._told_together(tuple([self._side(knot, bit, 1) for knot in knots]), known)
-            found = {told: lows[told] for told in lows}
-            for told in highs:
-                word = highs[told] + (1 << bit)
-                found[told] = min(word, found.get(told, word))
-            known[knots] = found
-        return known[knots]
 
     def _side(self, knot, bit, worth):
         """The knot that is left of one where a bit is 0 or 1, no bit that it chooses by being ahead of this one."""
